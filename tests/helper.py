@@ -1,8 +1,25 @@
-"""Things of all kinds, for the tests that hand in whatever there is."""
+"""What several tests need: the boxes with what they hold, and things of all kinds."""
 
 from haulbell.errors import HaulError, NoStore
 
 BIG = 10 ** 60 - 1
+NAMES = ["here", "there", "left", "way", "sign", "met"]
+FITTING = {
+    "here": [-10 ** 9, -1, 0, 1, 10 ** 9],
+    "there": [-10 ** 9, -1, 0, 1, 10 ** 9],
+    "left": [0, 1, 10 ** 9 - 1, 10 ** 9],
+    "way": [-1, 1],
+    "sign": [0, 1, 10 ** 9 - 1, 10 ** 9],
+    "met": [0, 1],
+}
+BEYOND = {
+    "here": [-10 ** 9 - 1, 10 ** 9 + 1],
+    "there": [-10 ** 9 - 1, 10 ** 9 + 1],
+    "left": [-1, 10 ** 9 + 1],
+    "way": [-2, 0, 2, 10 ** 9],
+    "sign": [-1, 10 ** 9 + 1],
+    "met": [-1, 2, 10 ** 9],
+}
 
 
 def no_wholes():
