@@ -1,6 +1,11 @@
-"""What several tests need: the boxes with what they hold, and things of all kinds."""
+"""What several tests need: the boxes with what they hold, things of all kinds, and a second writing of the steps."""
 
-from haulbell.errors import HaulError, NoStore
+from haulbell.boxes import Boxes
+from haulbell.deeds import Add, Read, Set, Take, Write
+from haulbell.errors import HaulError, NoFit, NoStore, Stop
+from haulbell.hops import Hop
+from haulbell.longs import Copy, Fill, Match, Seek, Shift, Turn
+from haulbell.store import Store
 
 BIG = 10 ** 60 - 1
 NAMES = ["here", "there", "left", "way", "sign", "met"]
@@ -20,6 +25,8 @@ BEYOND = {
     "sign": [-1, 10 ** 9 + 1],
     "met": [-1, 2, 10 ** 9],
 }
+DEEDS = {"copy": Copy, "fill": Fill, "seek": Seek, "match": Match, "shift": Shift, "turn": Turn}
+LEAVES = ["open", "look", "shut"]
 
 
 def no_wholes():
@@ -42,3 +49,180 @@ def refused(test, error_class, call, *things):
         call(*things)
     test.assertIs(type(caught.exception), error_class)
     return caught.exception
+
+
+def asked(word, b):
+    """The cells that a step looks at and those that it puts, as the document tells them; left is above 0."""
+    here, there, last = b["here"], b["there"], b["left"] - 1
+    back = 0 if there <= here else last
+    if word == "turn" and last == 0:
+        return [], []
+    return {
+        "copy": ([here], [there]),
+        "fill": ([], [there]),
+        "seek": ([here], []),
+        "match": ([here, there], []),
+        "shift": ([here + back], [there + back]),
+        "turn": ([here, here + last], [here, here + last]),
+    }[word]
+
+
+def stop_of(looks, puts, cells, leaves):
+    for deed, wanted, lets in (("look", looks, ("open", "look")), ("put", puts, ("open",))):
+        for cell in wanted:
+            if cell not in range(len(cells)) or leaves[cell] not in lets:
+                return (deed, cell)
+    return None
+
+
+def after(word, b, cells, looks, puts):
+    """The boxes and contents behind a step that can be, and what it tells; left is above 0."""
+    b, cells, old = dict(b), list(cells), [cells[cell] for cell in looks]
+    found = word == "seek" and old[0] == b["sign"]
+    unlike = word == "match" and old[0] != old[1]
+    if found or unlike:
+        b["met"] = 1 if found else 0
+        return b, cells, 1
+    if word in ("seek", "match"):
+        b["met"] = 0 if word == "seek" else 1
+    for cell, content in zip(puts, [b["sign"]] if word == "fill" else old[::-1]):
+        cells[cell] = content
+    walk = {"copy": ("here", "there"), "fill": ("there",), "seek": ("here",), "match": ("here", "there")}
+    forth = {"shift": ("here", "there") if b["there"] <= b["here"] else (), "turn": ("here",) if puts else ()}
+    for box in walk.get(word, ()):
+        b[box] += b["way"]
+    for box in forth.get(word, ()):
+        b[box] += 1
+    b["left"] -= 2 if word == "turn" and puts else 1
+    return b, cells, int(b["left"] == 0)
+
+
+def long_step(word, boxes, cells, leaves):
+    """(boxes, contents, what the step tells: a number or the tuple of the Stop)."""
+    b = dict(zip(NAMES, boxes))
+    if b["left"] == 0:
+        b["met"] = {"seek": 0, "match": 1}.get(word, b["met"])
+        return tuple(b.values()), cells, 1
+    looks, puts = asked(word, b)
+    stop = stop_of(looks, puts, cells, leaves)
+    if stop is not None:
+        return boxes, cells, stop
+    b, cells, told = after(word, b, cells, looks, puts)
+    return tuple(b.values()), cells, told
+
+
+def store_of(cells, leaves):
+    store = Store(cells)
+    for cell, word in enumerate(leaves):
+        store.leave(cell, cell + 1, word)
+    return store
+
+
+def step_of(deed, boxes, store):
+    try:
+        return deed.step(boxes, store)
+    except HaulError as refusal:
+        return (refusal.deed, refusal.cell) if type(refusal) is Stop else refusal
+
+
+def can_hold(box, number):
+    """Whether a box can hold a whole number, written apart from the program."""
+    return number in {
+        "here": range(-10 ** 9, 10 ** 9 + 1), "there": range(-10 ** 9, 10 ** 9 + 1), "left": range(10 ** 9 + 1),
+        "way": (1, -1), "sign": range(10 ** 9 + 1), "met": (0, 1),
+    }[box]
+
+
+def short_step(words, boxes, cells, leaves):
+    """As long_step, for the short deeds, by their words; a NoFit is told as the tuple ("fit", box)."""
+    b, word, box = dict(zip(NAMES, boxes)), words[0], words[1]
+    if word == "write":
+        if b[box] not in range(10 ** 9 + 1):
+            return boxes, cells, ("fit", box)
+        stop = stop_of([], [b["there"]], cells, leaves)
+        if stop is not None:
+            return boxes, cells, stop
+        cells = list(cells)
+        cells[b["there"]] = b[box]
+        return boxes, cells, 1
+    if word == "read":
+        stop = stop_of([b["here"]], [], cells, leaves)
+        if stop is not None:
+            return boxes, cells, stop
+        number = cells[b["here"]]
+    else:
+        number = {"set": lambda: int(words[2]), "add": lambda: b[box] + int(words[2]),
+                  "take": lambda: b[words[2]]}[word]()
+    if not can_hold(box, number):
+        return boxes, cells, ("fit", box)
+    b[box] = number
+    return tuple(b.values()), cells, 1
+
+
+def any_step(words, boxes, cells, leaves):
+    """A step of any deed: (boxes, contents, what the step tells: a number, or what can't be and the thing)."""
+    if words[0] in DEEDS:
+        return long_step(words[0], boxes, cells, leaves)
+    if words[0] == "hop":
+        goes = len(words) == 2 or int(words[3]) == boxes[5]
+        return boxes, cells, 1 + int(words[1]) if goes else 1
+    return short_step(words, boxes, cells, leaves)
+
+
+def run_model(rows, state, leaves, most):
+    """What run tells, the state behind it, and what why tells there; rows are lists of words."""
+    at, boxes, cells = state
+    steps = 0
+    while True:
+        if at == len(rows):
+            return ("end", steps), (at, boxes, cells), None
+        boxes_then, cells_then, told = any_step(rows[at], boxes, cells, leaves)
+        why = None if isinstance(told, int) else (at,) + told
+        if steps == most:
+            return ("bell", steps), (at, boxes, cells), why
+        if why is not None:
+            return ("stop", steps), (at, boxes, cells), why
+        at, boxes, cells, steps = min(at + told, len(rows)), boxes_then, cells_then, steps + 1
+
+
+def wild_deed(chance):
+    """Some short deed, often one that can't be."""
+    box, number = chance.choice(NAMES), chance.choice([-1, 0, 1, 2, 3, 5, 8, 10 ** 9])
+    return chance.choice([
+        lambda: Set(box, number), lambda: Add(box, number), lambda: Take(box, chance.choice(NAMES)),
+        lambda: Read(box), lambda: Write(box), lambda: Hop(chance.choice([3, 24]), chance.choice([None, 0, 1])),
+    ])()
+
+
+def deed_of(chance):
+    """Some deed, most often one that can be."""
+    if chance.randrange(12) == 0:
+        return wild_deed(chance)
+    place = chance.choice(["here", "there"])
+    return chance.choice([
+        lambda: Set(place, chance.randrange(8)), lambda: Set("left", chance.randrange(6)),
+        lambda: Set("sign", chance.randrange(4)), lambda: Set("way", chance.choice([1, -1])),
+        lambda: Add(place, chance.choice([-1, 1, 2])), lambda: Take("here", "there"), lambda: Take("there", "here"),
+        lambda: Read(chance.choice(["sign", "left"])), lambda: Write(chance.choice(["sign", "met", "left"])),
+        lambda: Hop(chance.randrange(3), chance.choice([None, 0, 1])),
+        Copy, Copy, Fill, Seek, Seek, Match, Match, Shift, Shift, Turn, Turn,
+    ])()
+
+
+def boxes_by(chance):
+    return Boxes(chance.randrange(9), chance.randrange(9), chance.randrange(7), chance.choice([1, 1, -1]),
+                 chance.randrange(4), chance.randrange(2))
+
+
+def store_by(chance):
+    store = Store([chance.randrange(4) for cell in range(chance.choice([1, 9, 12, 12, 20, 60]))])
+    for turn in range(chance.choice([0, 0, 1, 2])):
+        low = chance.randrange(store.size())
+        store.leave(low, min(low + chance.randrange(3), store.size()), chance.choice(LEAVES))
+    return store
+
+
+def machine_things(chance):
+    """Rows, a store and boxes for a machine, the same ones each time for the same seed."""
+    many = chance.choice([1, 2, 3, 6, 12, 24, 24])
+    return [deed_of(chance) for row in range(many)], store_by(chance), boxes_by(chance)

@@ -3,87 +3,12 @@ import unittest
 
 from haulbell.boxes import Boxes
 from haulbell.deeds import Deed
-from haulbell.errors import HaulError, Stop
+from haulbell.errors import Stop
 from haulbell.longs import Copy, Fill, Match, Seek, Shift, Turn
 from haulbell.store import Store
-from helper import NAMES, refused
+from helper import DEEDS, long_step, refused, step_of, store_of
 
-DEEDS = {"copy": Copy, "fill": Fill, "seek": Seek, "match": Match, "shift": Shift, "turn": Turn}
 FAR = 10 ** 9
-
-
-def asked(word, b):
-    """The cells that a step looks at and those that it puts, as the document tells them; left is above 0."""
-    here, there, last = b["here"], b["there"], b["left"] - 1
-    back = 0 if there <= here else last
-    if word == "turn" and last == 0:
-        return [], []
-    return {
-        "copy": ([here], [there]),
-        "fill": ([], [there]),
-        "seek": ([here], []),
-        "match": ([here, there], []),
-        "shift": ([here + back], [there + back]),
-        "turn": ([here, here + last], [here, here + last]),
-    }[word]
-
-
-def stop_of(looks, puts, cells, leaves):
-    for deed, wanted, lets in (("look", looks, ("open", "look")), ("put", puts, ("open",))):
-        for cell in wanted:
-            if cell not in range(len(cells)) or leaves[cell] not in lets:
-                return (deed, cell)
-    return None
-
-
-def after(word, b, cells, looks, puts):
-    """The boxes and contents behind a step that can be, and what it tells; left is above 0."""
-    b, cells, old = dict(b), list(cells), [cells[cell] for cell in looks]
-    found = word == "seek" and old[0] == b["sign"]
-    unlike = word == "match" and old[0] != old[1]
-    if found or unlike:
-        b["met"] = 1 if found else 0
-        return b, cells, 1
-    if word in ("seek", "match"):
-        b["met"] = 0 if word == "seek" else 1
-    for cell, content in zip(puts, [b["sign"]] if word == "fill" else old[::-1]):
-        cells[cell] = content
-    walk = {"copy": ("here", "there"), "fill": ("there",), "seek": ("here",), "match": ("here", "there")}
-    forth = {"shift": ("here", "there") if b["there"] <= b["here"] else (), "turn": ("here",) if puts else ()}
-    for box in walk.get(word, ()):
-        b[box] += b["way"]
-    for box in forth.get(word, ()):
-        b[box] += 1
-    b["left"] -= 2 if word == "turn" and puts else 1
-    return b, cells, int(b["left"] == 0)
-
-
-def model(word, boxes, cells, leaves):
-    """(boxes, contents, what the step tells: a number or the tuple of the Stop)."""
-    b = dict(zip(NAMES, boxes))
-    if b["left"] == 0:
-        b["met"] = {"seek": 0, "match": 1}.get(word, b["met"])
-        return tuple(b.values()), cells, 1
-    looks, puts = asked(word, b)
-    stop = stop_of(looks, puts, cells, leaves)
-    if stop is not None:
-        return boxes, cells, stop
-    b, cells, told = after(word, b, cells, looks, puts)
-    return tuple(b.values()), cells, told
-
-
-def store_of(cells, leaves):
-    store = Store(cells)
-    for cell, word in enumerate(leaves):
-        store.leave(cell, cell + 1, word)
-    return store
-
-
-def step_of(deed, boxes, store):
-    try:
-        return deed.step(boxes, store)
-    except HaulError as refusal:
-        return (refusal.deed, refusal.cell) if type(refusal) is Stop else refusal
 
 
 def run(deed, boxes, store):
@@ -99,8 +24,8 @@ class AgainstTheModel(unittest.TestCase):
         made, store = Boxes(*boxes), store_of(cells, leaves)
         told = step_of(DEEDS[word](), made, store)
         answer = (made.told(), store.told(), told)
-        if answer != model(word, boxes, cells, leaves):
-            self.fail((word, boxes, cells, leaves, answer, model(word, boxes, cells, leaves)))
+        if answer != long_step(word, boxes, cells, leaves):
+            self.fail((word, boxes, cells, leaves, answer, long_step(word, boxes, cells, leaves)))
         self.assertEqual(store.leaves(), list(leaves))
 
     def test_every_leave(self):
