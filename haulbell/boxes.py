@@ -51,3 +51,7 @@ class Boxes:
         other = Boxes()
         other.numbers = dict(self.numbers)
         return other
+
+
+def boxes_of(numbers):
+    return Boxes(numbers[0], numbers[1], numbers[2], numbers[3], numbers[4], numbers[5])

@@ -62,6 +62,10 @@ class Store:
             raise Stop("put", cell)
         self.contents[cell] = content
 
+    # Whatever the leave is: what is taken back was let when it was put.
+    def restore(self, cell, content):
+        self.contents[cell] = content
+
     def copied(self):
         # The contents were asked when they came, and are not asked again.
         other = Store([0])

@@ -185,6 +185,27 @@ def run_model(rows, state, leaves, most):
         at, boxes, cells, steps = min(at + told, len(rows)), boxes_then, cells_then, steps + 1
 
 
+def put_by(words, boxes):
+    """The cells that a step puts, in order."""
+    b = dict(zip(NAMES, boxes))
+    if words[0] == "write":
+        return [b["there"]]
+    return asked(words[0], b)[1] if words[0] in DEEDS and b["left"] > 0 else []
+
+
+def log_model(rows, state, leaves, most):
+    """The log of a run, and the states behind 0, 1, 2 .. steps of it; rows are lists of words."""
+    log, states = [], [state]
+    while len(log) < most:
+        (word, steps), then, why = run_model(rows, states[-1], leaves, 1)
+        if steps == 0:
+            break
+        at, boxes, cells = states[-1]
+        log.append((at, boxes, [(cell, cells[cell], then[2][cell]) for cell in put_by(rows[at], boxes)]))
+        states.append(then)
+    return log, states
+
+
 def wild_deed(chance):
     """Some short deed, often one that can't be."""
     box, number = chance.choice(NAMES), chance.choice([-1, 0, 1, 2, 3, 5, 8, 10 ** 9])

@@ -160,6 +160,20 @@ class Form(unittest.TestCase):
         for path, node in nodes(ast.Attribute):
             self.assertIn(node.attr, methods | values | PYTHON_METHODS | DOUBLE, (path, node.lineno))
 
+    def test_where_classes_stand(self):
+        owners = {owner.name for path, owner in nodes(ast.ClassDef)}
+        let = [(path, node.func) for path, node in nodes(ast.Call)]
+        let += [(path, base) for path, owner in nodes(ast.ClassDef) for base in owner.bases]
+        let += [(path, node.type) for path, node in nodes(ast.ExceptHandler)]
+        let += [(path, node.value) for path, node in nodes(ast.Attribute) if node.attr == "__init__"]
+        for path, node in nodes(ast.Call):
+            if isinstance(node.func, ast.Name) and node.func.id == "isinstance":
+                let += [(path, kind) for kind in ast.walk(node.args[1]) if isinstance(kind, ast.Name)]
+        places = {(path, node.lineno, node.col_offset) for path, node in let}
+        for path, node in nodes(ast.Name):
+            if node.id in owners:
+                self.assertIn((path, node.lineno, node.col_offset), places)
+
     def test_is_stands_beside_none_and_truths(self):
         for path, node in nodes(ast.Compare):
             for sign, right in zip(node.ops, node.comparators):
