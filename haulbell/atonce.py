@@ -3,8 +3,8 @@
 from haulbell.errors import Stop
 
 
-# Every step that can be has its cells in the store and leaves fewer to go, so
-# there are never more steps than a store has cells, however great left is.
+# Step by step, for these are few: where a step doesn't make the deed done, the
+# next one asks another cell, and a store has few cells, however great left is.
 def at_once(deed, boxes, store):
     steps = 0
     done = False
