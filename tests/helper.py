@@ -1,9 +1,11 @@
 """What several tests need: the boxes with what they hold, things of all kinds, and a second writing of the steps."""
 
+from haulbell.book import Book
 from haulbell.boxes import Boxes
-from haulbell.deeds import Add, Read, Set, Take, Write
+from haulbell.deeds import Add, Deed, Read, Set, Take, Write
 from haulbell.errors import HaulError, NoFit, NoStore, Stop
 from haulbell.hops import Hop
+from haulbell.items import Do, Times, When
 from haulbell.longs import Copy, Fill, Match, Seek, Shift, Turn
 from haulbell.store import Store
 
@@ -247,3 +249,59 @@ def machine_things(chance):
     """Rows, a store and boxes for a machine, the same ones each time for the same seed."""
     many = chance.choice([1, 2, 3, 6, 12, 24, 24])
     return [deed_of(chance) for row in range(many)], store_by(chance), boxes_by(chance)
+
+
+def laid(blocks, block):
+    """The list of (path, deed) of a block, by what its items tell; of a Hop that is made here, its words."""
+    pairs = []
+    for place, item in enumerate(block):
+        told = ("deed",) if isinstance(item, Deed) else item.told()
+        if told[0] == "deed":
+            pairs.append(((place,), item))
+        elif told[0] == "do":
+            pairs += [((place,) + path, deed) for path, deed in laid(blocks, blocks[told[1]])]
+        elif told[0] == "times":
+            pairs += [((place, turn) + path, deed) for turn in range(told[1]) for path, deed in laid(blocks, told[2])]
+        else:
+            one, other = [laid(blocks, part) for part in told[2:]]
+            pairs.append(((place,), f"hop {len(one) + bool(told[3])} if {1 - told[1]}"))
+            pairs += [((place, 0) + path, deed) for path, deed in one]
+            if told[3]:
+                pairs.append(((place, 2), f"hop {len(other)}"))
+                pairs += [((place, 1) + path, deed) for path, deed in other]
+    return pairs
+
+
+def block_by(chance, depth, names, most, deeds=deed_of):
+    """Some block: of items without a Hop where deeds makes none."""
+    block = []
+    for place in range(chance.randrange(most)):
+        kind = chance.choice(["deed", "deed", "do", "times", "when"])
+        if kind == "do" and names:
+            block.append(Do(chance.choice(names)))
+        elif kind == "times" and depth > 1:
+            block.append(Times(chance.choice([0, 1, 2, 3]), block_by(chance, depth - 1, names, most, deeds)))
+        elif kind == "when" and depth > 1:
+            other = chance.choice([None, block_by(chance, depth - 1, names, most, deeds)])
+            block.append(When(chance.randrange(2), block_by(chance, depth - 1, names, most, deeds), other))
+        else:
+            block.append(deeds(chance))
+    return block
+
+
+def book_by(chance, most, deeds=deed_of):
+    """A book of some names, and its blocks; each names those ahead of it."""
+    book, blocks = Book(), {}
+    for word in chance.sample(["a", "b", "haul", "bell", "zz", "sixth"], chance.randrange(7)):
+        blocks[word] = block_by(chance, chance.randrange(1, 5), list(blocks), most, deeds)
+        book.name(word, blocks[word])
+    return book, blocks
+
+
+def walker_things(chance):
+    """A book, its blocks, a block of one to twenty-four deeds laid flat, a store and boxes."""
+    while True:
+        book, blocks = book_by(chance, 3)
+        block = block_by(chance, chance.randrange(1, 5), list(blocks), 5)
+        if 1 <= len(laid(blocks, block)) <= 24:
+            return book, blocks, block, store_by(chance), boxes_by(chance)

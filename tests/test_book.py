@@ -11,7 +11,7 @@ from haulbell.items import Do, Times, When
 from haulbell.longs import Copy, Fill, Seek, Turn
 from haulbell.machine import Machine
 from haulbell.store import Store
-from helper import boxes_by, deed_of, no_texts, refused, store_by
+from helper import block_by, book_by, boxes_by, deed_of, laid, no_texts, refused, store_by
 
 
 def book_of(**blocks):
@@ -23,53 +23,6 @@ def book_of(**blocks):
 
 def words_of(deeds):
     return [" ".join(deed.words()) for deed in deeds]
-
-
-def laid(blocks, block):
-    """The list of (path, deed) of a block, by what its items tell; of a Hop that is made here, its words."""
-    pairs = []
-    for place, item in enumerate(block):
-        told = ("deed",) if isinstance(item, Deed) else item.told()
-        if told[0] == "deed":
-            pairs.append(((place,), item))
-        elif told[0] == "do":
-            pairs += [((place,) + path, deed) for path, deed in laid(blocks, blocks[told[1]])]
-        elif told[0] == "times":
-            pairs += [((place, turn) + path, deed) for turn in range(told[1]) for path, deed in laid(blocks, told[2])]
-        else:
-            one, other = [laid(blocks, part) for part in told[2:]]
-            pairs.append(((place,), f"hop {len(one) + bool(told[3])} if {1 - told[1]}"))
-            pairs += [((place, 0) + path, deed) for path, deed in one]
-            if told[3]:
-                pairs.append(((place, 2), f"hop {len(other)}"))
-                pairs += [((place, 1) + path, deed) for path, deed in other]
-    return pairs
-
-
-def block_by(chance, depth, names, most, deeds=deed_of):
-    """Some block: of items without a Hop where deeds makes none."""
-    block = []
-    for place in range(chance.randrange(most)):
-        kind = chance.choice(["deed", "deed", "do", "times", "when"])
-        if kind == "do" and names:
-            block.append(Do(chance.choice(names)))
-        elif kind == "times" and depth > 1:
-            block.append(Times(chance.choice([0, 1, 2, 3]), block_by(chance, depth - 1, names, most, deeds)))
-        elif kind == "when" and depth > 1:
-            other = chance.choice([None, block_by(chance, depth - 1, names, most, deeds)])
-            block.append(When(chance.randrange(2), block_by(chance, depth - 1, names, most, deeds), other))
-        else:
-            block.append(deeds(chance))
-    return block
-
-
-def book_by(chance, most, deeds=deed_of):
-    """A book of some names, and its blocks; each names those ahead of it."""
-    book, blocks = Book(), {}
-    for word in chance.sample(["a", "b", "haul", "bell", "zz", "sixth"], chance.randrange(7)):
-        blocks[word] = block_by(chance, chance.randrange(1, 5), list(blocks), most, deeds)
-        book.name(word, blocks[word])
-    return book, blocks
 
 
 def all_names(block):
