@@ -305,3 +305,27 @@ def walker_things(chance):
         block = block_by(chance, chance.randrange(1, 5), list(blocks), 5)
         if 1 <= len(laid(blocks, block)) <= 24:
             return book, blocks, block, store_by(chance), boxes_by(chance)
+
+
+def is_looking(deed):
+    """Whether a content says something about what rows with this deed do."""
+    return deed.words()[0] in ("seek", "match", "read")
+
+
+def blind_deed(chance):
+    """Some deed that is no Seek, no Match and no Read."""
+    while True:
+        deed = deed_of(chance)
+        if not is_looking(deed):
+            return deed
+
+
+def blind_rows(chance, most=24):
+    return [blind_deed(chance) for row in range(chance.randrange(1, most + 1))]
+
+
+def left_behind(rows, boxes, cells):
+    """The pairs (boxes, cells) behind 0, 1, 2 .. steps, up to the end or the stop, all cells being open."""
+    words = [deed.words() for deed in rows]
+    log, states = log_model(words, (0, boxes.told(), cells), ["open"] * len(cells), 10 ** 6)
+    return [(numbers, contents) for at, numbers, contents in states]

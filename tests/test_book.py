@@ -82,7 +82,8 @@ class Name(unittest.TestCase):
         [Do("x")], [Copy(), Do("a"), Do("x"), Do("y")], [Times(3, [Do("x")]), Do("y")], [Times(0, [Copy(), Do("x")])],
         [Times(0, [Times(0, [Times(0, [Do("x")])])])], [When(1, [Do("x")], [Do("y")])], [When(0, [Do("x")], [Do("y")])],
         [When(0, [Do("a")], [Do("x")]), Do("y")], [When(1, [], [Times(1, [When(0, [Do("x")], [Do("y")])])])],
-        [When(0, [When(1, [Copy()], [Do("x")])], [Do("y")])], [Do("a"), When(1, [Do("a")]), Times(2, [Do("x"), Do("y")])],
+        [When(0, [When(1, [Copy()], [Do("x")])], [Do("y")])],
+        [Do("a"), When(1, [Do("a")]), Times(2, [Do("x"), Do("y")])],
     ]
 
     def test_blocks_that_name_what_the_book_has_not(self):
